@@ -63,7 +63,7 @@ func obeyFails(t *testing.T, name string, m api.Mem, b api.Bridge, want api.Errn
 // TestTellIntoEveryRing: the word goes into the ring where there is room; where
 // there is none the fault is lost, and memory stays.
 func TestTellIntoEveryRing(t *testing.T) {
-	for _, page := range []int{0, 5, 31, 61, 63} {
+	for page := range 64 {
 		for head := range 8 {
 			for tail := range 8 {
 				for mode := api.Off; mode <= api.On; mode++ {
